@@ -1,0 +1,1 @@
+"""Merelylate: mills that read their own future, and what they come to."""

@@ -1,0 +1,101 @@
+"""What point 1 says of the arguments of every function."""
+
+import copy
+import unittest
+
+import samples
+from merelylate.mills import holds, is_history, reach, tells
+from merelylate.windows import live_windows, next_windows, sets_through, windows
+
+MILL = samples.AHEAD
+WINDOW = (1, ((1, 0),))
+COLUMNS = ((1, 0), (0, 1))
+
+# For each function good arguments, and the error for None in the place of each.
+CALLS = (
+    (reach, (MILL,), (("BadMill", "mill"),)),
+    (holds, (MILL, COLUMNS, 0), (("BadMill", "mill"), ("BadColumns", None), ("BadTick",))),
+    (tells, (MILL, COLUMNS), (("BadMill", "mill"), ("BadColumns", None))),
+    (is_history, (MILL, ((), COLUMNS)), (("BadMill", "mill"), None)),
+    (windows, (MILL,), (("BadMill", "mill"),)),
+    (live_windows, (MILL,), (("BadMill", "mill"),)),
+    (next_windows, (MILL, WINDOW, 0), (("BadMill", "mill"), ("BadWindow",), ("BadLetters",))),
+    (sets_through, (MILL, (0, 1)), (("BadMill", "mill"), ("BadLetters",))))
+
+
+class ArgumentsTest(unittest.TestCase):
+
+    def test_the_leftmost_error_is_raised(self):
+        for call, arguments, errors in CALLS:
+            for at in range(len(arguments)):
+                for wrong in (1, len(arguments) - at):
+                    given = arguments[:at] + (None,) * wrong + arguments[at + wrong:]
+                    self.assertEqual(samples.fields_of(call, *given), errors[at], (call, given))
+
+    def test_of_columns_none_is_named_first(self):
+        self.assertEqual(samples.fields_of(holds, MILL, (None,) * 201, None), ("BadColumns", None))
+        self.assertEqual(samples.fields_of(holds, MILL, COLUMNS + (None,), None), ("BadColumns", 2))
+
+    def test_too_many_comes_behind_all_others(self):
+        mill = samples.AT_601
+        self.assertEqual(samples.fields_of(sets_through, mill, (0,)), ("TooMany", 600))
+        self.assertEqual(samples.fields_of(sets_through, mill, (3,)), ("BadLetters",))
+        self.assertEqual(samples.fields_of(sets_through, mill, (0,) * 61), ("BadLetters",))
+        self.assertEqual(samples.fields_of(windows, mill[:3]), ("BadMill", "mill"))
+
+    def test_points_2_and_3_count_no_windows(self):
+        mill = samples.AT_601
+        column = (0, 1, 0, 0)
+        self.assertEqual(reach(mill), (2, 0))
+        self.assertIs(holds(mill, (column,), 0), True)
+        self.assertEqual(tells(mill, (column,)), ((1,),))
+        self.assertIs(is_history(mill, ((), (column,))), True)
+
+    def test_true_and_false_are_no_integers(self):
+        for call, arguments in (
+                (reach, ((True, ((2, 0),), (0,), ()),)), (reach, ((1, ((2, False),), (0,), ()),)),
+                (reach, ((1, ((2, 0),), (False,), ()),)), (reach, ((1, ((2, 0),), (0,), ((("in", False),) * 2,)),)),
+                (holds, (MILL, ((True, 0), (0, 0)), 0)), (holds, (MILL, COLUMNS, False)), (tells, (MILL, ((0, True),))),
+                (next_windows, (MILL, (True, ((1, 0),)), 0)), (next_windows, (MILL, WINDOW, True)),
+                (next_windows, (MILL, (1, ((True, 0),)), 0)), (sets_through, (MILL, (0, True)))):
+            self.assertIsNotNone(samples.fields_of(call, *arguments), (call, arguments))
+        self.assertIs(is_history(MILL, ((), ((True, True),))), False)
+        self.assertIs(is_history(MILL, ((), ((1, 1),))), True)
+
+    def test_any_value_may_be_passed(self):
+        good = MILL
+        for value in samples.NOTHINGS + ([[[]]], {"a": [()]}, {(): {}}, (((),),), samples.nested(30000)):
+            for call, arguments, _ in CALLS:
+                for at in range(len(arguments)):
+                    # Any outcome will do here but an error that is none of the package.
+                    samples.fields_of(call, *arguments[:at], value, *arguments[at + 1:])
+            for at in range(4):
+                samples.fields_of(windows, good[:at] + (value,) + good[at + 1:])
+
+    def test_arguments_stay_the_same(self):
+        wrong = [[2, [[2, 0]], [0], []], {0: [1]}, [(0, 0)], ([1, 0], [0])]
+        for call, arguments, _ in CALLS:
+            before = copy.deepcopy(arguments)
+            call(*arguments)
+            self.assertEqual(arguments, before)
+            for value in wrong:
+                for at in range(len(arguments)):
+                    given = arguments[:at] + (value,) + arguments[at + 1:]
+                    kept = copy.deepcopy(given)
+                    samples.fields_of(call, *given)
+                    self.assertEqual(given, kept)
+
+    def test_two_calls_answer_the_same(self):
+        for call, arguments, _ in CALLS:
+            first = call(*arguments)
+            call(samples.BARRED, *self.fitting(call))
+            self.assertEqual(call(*arguments), first)
+            self.assertEqual(call(*copy.deepcopy(arguments)), first)
+
+    def fitting(self, call):
+        """Arguments for the mill BARRED, whose letters and names are like those of AHEAD."""
+        return next(arguments[1:] for one, arguments, _ in CALLS if one is call)
+
+
+if __name__ == "__main__":
+    unittest.main()
