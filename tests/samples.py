@@ -37,6 +37,35 @@ AT_600 = AT_601[:3] + (AT_601[3] + ((("less", times(
     ("in", 0), ("of", 0, 0), ("of", 1, 0), ("of", 2, 0),
     ("in", -1), ("of", 0, -1), ("of", 1, -1), ("of", 2, -1)), ("is", 9)), ("is", 1)),),)
 
+
+def counting(letters):
+    """A mill that is 7 ticks late, with so many letters.
+
+    One of its names counts: a sum of its last two values, in turns of eight ticks. Another one is any
+    value at the beginning of a turn, is kept, and must be the letter at the last but one tick of the turn.
+    """
+    begun = ("times", ("same", ("of", 2, -2), ("is", 1)), ("same", ("of", 2, -1), ("is", 1)))
+    asked = ("times", ("same", ("of", 2, -2), ("is", 0)), ("same", ("of", 2, -1), ("is", 1)))
+    return (letters, ((letters, 0), (letters, 0), (3, 1)), (0, 1), (
+        (("of", 0, 0), ("in", 0)),
+        (("of", 2, 0), ("rest", ("plus", ("of", 2, -1), ("of", 2, -2)), 3)),
+        (("pick", begun, ("of", 1, 0), ("of", 1, -1)), ("of", 1, 0)),
+        (("pick", asked, ("in", 0), ("of", 1, 0)), ("of", 1, 0))))
+
+
+# A next letter and the one behind it; the latter with a paradox, or a free choice, besides.
+NEXT_BUT_ONE = (2, ((2, 0),), (0,), ((("of", 0, 0), ("in", 2)),))
+AHEAD_BARRED = (2, ((2, 0),), (0,), (
+    (("is", 0), ("times", ("in", 0), ("in", 1))), (("of", 0, 0), ("in", 1))))
+LONE_BARRED = (2, ((2, 0),), (0,), (
+    (("is", 0), ("times", ("in", 0), ("in", 1))), (("of", 0, 0), ("of", 0, 1))))
+# 1 can come, but there is nothing behind it.
+DYING = (2, ((2, 0),), (0,), ((("of", 0, 1), ("pick", ("of", 0, 0), ("is", 2), ("is", 0))),))
+# More than 2000 sets of live windows, and a free choice; the same that tells nothing but 0.
+MANY_SETS = (2, ((3, 2),), (0,), ((("of", 0, -1), ("rest", (
+    "plus", ("pick", ("of", 0, 0), ("of", 0, 2), ("in", 0)), ("of", 0, 1)), 3)),))
+MANY_SETS_TOLD_0 = (2, ((3, 2), (2, 0)), (1,), MANY_SETS[3] + tuple(
+    [(("of", 1, offset), ("is", 0)) for offset in range(3)]))
 # None of these is an integer, a tuple with something in it, a column or a window.
 NOTHINGS = (None, True, False, "", "0", "mill", [], [0], {}, {0: 0}, (), (None,), ((),), -1, 10 ** 30)
 
@@ -193,3 +222,59 @@ def fields_of(call, *arguments):
     except MillError as error:
         return (error.__class__.__name__, *vars(error).values())
     return None
+
+
+def spoiled(value):
+    """Values like a nested tuple, but that one thing in it is of another kind."""
+    if isinstance(value, tuple):
+        yield list(value)
+        yield value + (None,)
+        for at, part in enumerate(value):
+            for other in spoiled(part):
+                yield value[:at] + (other,) + value[at + 1:]
+            yield value[:at] + value[at + 1:]
+    elif isinstance(value, int):
+        yield from (bool(value), str(value), None, (value,), -1, value + 10 ** 30)
+    else:
+        yield from (0, True, (), [value])
+
+
+def likely_term(chance, names, deep, low, high):
+    """A term of any kind that often reads a letter."""
+    kinds = ["in", "in", "in", "of", "of", "is"]
+    if deep > 1:
+        kinds += ["plus", "plus", "times", "same", "less", "pick", "pick", "rest"]
+    kind = chance.choice(kinds)
+    if kind == "in":
+        return (kind, chance.randint(low, high))
+    if kind == "of":
+        return (kind, chance.randrange(names), chance.randint(low, high))
+    if kind == "is":
+        return (kind, chance.randint(0, 2))
+    parts = [likely_term(chance, names, deep - 1, low, high)
+             for _ in range({"pick": 3, "rest": 1}.get(kind, 2))]
+    return (kind, *parts) if kind != "rest" else (kind, parts[0], chance.randint(2, 3))
+
+
+def likely_mill(chance):
+    """A mill in which most names have an equation that says what they are: many of these are honest."""
+    low, high = chance.choice([(0, 1), (-1, 1), (0, 2), (-1, 2), (-2, 1), (-1, 0), (-2, 2)])
+    count = chance.choice([1, 1, 2, 2])
+    names = tuple((values, chance.randrange(values))
+                  for values in [chance.choice([2, 2, 2, 3]) for _ in range(count)])
+    equations = []
+    for name in range(count):
+        if chance.random() < 0.9:
+            term = likely_term(chance, count, chance.randint(1, 3), low, high)
+            offset = chance.choice([0, 0, 0, 0, 1, -1])
+            equations.append((("of", name, offset), ("rest", term, names[name][0])))
+    if chance.random() < 0.2:
+        equations.append(tuple(likely_term(chance, count, 2, low, high) for _ in range(2)))
+    told = tuple(sorted(chance.sample(range(count), chance.randint(1, count))))
+    return (chance.choice([1, 2, 2, 2]), names, told, tuple(equations))
+
+
+def likely_mills(seed, many):
+    """So many such mills, the same ones for the same seed."""
+    chance = random.Random(seed)
+    return [likely_mill(chance) for _ in range(many)]

@@ -4,12 +4,19 @@ import copy
 import unittest
 
 import samples
+from merelylate.choices import (
+    bound, free_choice, is_honest, least_delay, ranks, shows_free_choice, shows_ranks, shows_two_stories, two_stories)
+from merelylate.late import are_alike, late_mill, run_late, shows_late, unlike_word
 from merelylate.mills import holds, is_history, reach, tells
+from merelylate.paradoxes import closed_sets, is_paradox, paradox, shows_closed_sets
 from merelylate.windows import live_windows, next_windows, sets_through, windows
 
 MILL = samples.AHEAD
 WINDOW = (1, ((1, 0),))
 COLUMNS = ((1, 0), (0, 1))
+
+NO_MILL = ("BadMill", "mill")
+LATE = (((1, None), (1, None)), ((1, (0,)), (1, (1,))))
 
 # For each function good arguments, and the error for None in the place of each.
 CALLS = (
@@ -20,7 +27,34 @@ CALLS = (
     (windows, (MILL,), (("BadMill", "mill"),)),
     (live_windows, (MILL,), (("BadMill", "mill"),)),
     (next_windows, (MILL, WINDOW, 0), (("BadMill", "mill"), ("BadWindow",), ("BadLetters",))),
-    (sets_through, (MILL, (0, 1)), (("BadMill", "mill"), ("BadLetters",))))
+    (sets_through, (MILL, (0, 1)), (("BadMill", "mill"), ("BadLetters",))),
+    (paradox, (MILL,), (NO_MILL,)),
+    (is_paradox, (MILL, (0, 1)), (NO_MILL, ("BadLetters",))),
+    (closed_sets, (MILL,), (NO_MILL,)),
+    (shows_closed_sets, (MILL, closed_sets(MILL)), (NO_MILL, None)),
+    (free_choice, (MILL,), (NO_MILL,)),
+    (shows_free_choice, (MILL, (((), ((0, 0),)),) * 2), (NO_MILL, None)),
+    (ranks, (MILL,), (NO_MILL,)),
+    (shows_ranks, (MILL, ranks(MILL)), (NO_MILL, None)),
+    (is_honest, (MILL,), (NO_MILL,)),
+    (least_delay, (MILL,), (NO_MILL,)),
+    (bound, (MILL,), (NO_MILL,)),
+    (two_stories, (MILL,), (NO_MILL,)),
+    (shows_two_stories, (MILL, (((1, 0),), ((1, 1),))), (NO_MILL, None)),
+    (late_mill, (MILL,), (NO_MILL,)),
+    (run_late, (LATE, (0, 1)), (("BadLate", None), ("BadLetters",))),
+    (shows_late, (MILL, LATE), (NO_MILL, None)),
+    (are_alike, (MILL, MILL), (NO_MILL, NO_MILL)),
+    (unlike_word, (MILL, MILL), (NO_MILL, NO_MILL)))
+
+# All that ask for the windows of a mill, with arguments that fit any mill, or that are asked for behind them.
+COUNTING = (
+    (windows, ()), (live_windows, ()), (sets_through, ((0,),)), (paradox, ()), (is_paradox, ((0,),)),
+    (closed_sets, ()), (shows_closed_sets, (None,)), (shows_closed_sets, ((),)), (free_choice, ()),
+    (shows_free_choice, (None,)), (shows_free_choice, (7,)), (ranks, ()), (shows_ranks, (None,)),
+    (shows_ranks, ((),)), (is_honest, ()), (least_delay, ()), (bound, ()), (two_stories, ()),
+    (shows_two_stories, (None,)), (shows_two_stories, (((), ()),)), (late_mill, ()), (shows_late, (None,)),
+    (shows_late, (LATE,)), (are_alike, (samples.AT_601,)), (unlike_word, (samples.AT_601,)))
 
 
 class ArgumentsTest(unittest.TestCase):
@@ -42,6 +76,14 @@ class ArgumentsTest(unittest.TestCase):
         self.assertEqual(samples.fields_of(sets_through, mill, (3,)), ("BadLetters",))
         self.assertEqual(samples.fields_of(sets_through, mill, (0,) * 61), ("BadLetters",))
         self.assertEqual(samples.fields_of(windows, mill[:3]), ("BadMill", "mill"))
+
+    def test_all_that_count_windows(self):
+        for call, more in COUNTING:
+            self.assertEqual(samples.fields_of(call, samples.AT_601, *more), ("TooMany", 600), call)
+            if call not in (are_alike, unlike_word):
+                self.assertNotEqual(samples.fields_of(call, samples.AT_600, *more), ("TooMany", 600), call)
+        self.assertEqual(samples.fields_of(is_paradox, samples.AT_601, (3,)), ("BadLetters",))
+        self.assertIsNone(samples.fields_of(run_late, LATE, (0,)))
 
     def test_points_2_and_3_count_no_windows(self):
         mill = samples.AT_601
@@ -86,15 +128,23 @@ class ArgumentsTest(unittest.TestCase):
                     self.assertEqual(given, kept)
 
     def test_two_calls_answer_the_same(self):
+        others = (samples.PLAIN, samples.AHEAD_BARRED, samples.FREE)
         for call, arguments, _ in CALLS:
             first = call(*arguments)
-            call(samples.BARRED, *self.fitting(call))
+            for other in others:
+                # Whatever comes in between, by mills that have the same letters and names.
+                samples.fields_of(call, other, *arguments[1:])
             self.assertEqual(call(*arguments), first)
             self.assertEqual(call(*copy.deepcopy(arguments)), first)
 
-    def fitting(self, call):
-        """Arguments for the mill BARRED, whose letters and names are like those of AHEAD."""
-        return next(arguments[1:] for one, arguments, _ in CALLS if one is call)
+    def test_shows_answers_for_any_last_argument(self):
+        strange = samples.NOTHINGS + ([[[]]], {"a": [()]}, {(): {}}, (((),),), samples.nested(30000), ({}, {}),
+                                      (([],), ([],)), (((), ()), ((), ())), ((None,) * 2,) * 2)
+        for call in (shows_closed_sets, shows_free_choice, shows_ranks, shows_two_stories, shows_late):
+            for mill in (MILL, samples.PLAIN):
+                for value in strange:
+                    self.assertIn(call(mill, value), (True, False))
+                    self.assertIsInstance(call(mill, value), bool)
 
 
 if __name__ == "__main__":
