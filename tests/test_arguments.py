@@ -4,11 +4,15 @@ import copy
 import unittest
 
 import samples
+from merelylate.benches import Bench
 from merelylate.choices import (
     bound, free_choice, is_honest, least_delay, ranks, shows_free_choice, shows_ranks, shows_two_stories, two_stories)
+from merelylate.futures import count_parts, open_tellings, owed_most, sure
+from merelylate.joins import behind, beside, reads_back, ringed, turned
 from merelylate.late import are_alike, late_mill, run_late, shows_late, unlike_word
 from merelylate.mills import holds, is_history, reach, tells
 from merelylate.paradoxes import closed_sets, is_paradox, paradox, shows_closed_sets
+from merelylate.texts import read_mill, written
 from merelylate.windows import live_windows, next_windows, sets_through, windows
 
 MILL = samples.AHEAD
@@ -16,6 +20,7 @@ WINDOW = (1, ((1, 0),))
 COLUMNS = ((1, 0), (0, 1))
 
 NO_MILL = ("BadMill", "mill")
+TEXT = "letters 2\nname x 2 from 0\ntells x\nx = in@+1\n"
 LATE = (((1, None), (1, None)), ((1, (0,)), (1, (1,))))
 
 # For each function good arguments, and the error for None in the place of each.
@@ -45,7 +50,18 @@ CALLS = (
     (run_late, (LATE, (0, 1)), (("BadLate", None), ("BadLetters",))),
     (shows_late, (MILL, LATE), (NO_MILL, None)),
     (are_alike, (MILL, MILL), (NO_MILL, NO_MILL)),
-    (unlike_word, (MILL, MILL), (NO_MILL, NO_MILL)))
+    (unlike_word, (MILL, MILL), (NO_MILL, NO_MILL)),
+    (open_tellings, (MILL, (0, 1)), (NO_MILL, ("BadLetters",))),
+    (sure, (MILL, (0, 1)), (NO_MILL, ("BadLetters",))),
+    (count_parts, (MILL, (0, 1)), (NO_MILL, ("BadLetters",))),
+    (owed_most, (MILL,), (NO_MILL,)),
+    (written, (MILL, ("x",)), (NO_MILL, ("BadWords",))),
+    (read_mill, (TEXT,), (("BadText", 0),)),
+    (behind, (MILL, MILL), (NO_MILL, NO_MILL)),
+    (beside, (MILL, MILL), (NO_MILL, NO_MILL)),
+    (ringed, (MILL,), (NO_MILL,)),
+    (turned, (MILL,), (NO_MILL,)),
+    (reads_back, (MILL,), (NO_MILL,)))
 
 # All that ask for the windows of a mill, with arguments that fit any mill, or that are asked for behind them.
 COUNTING = (
@@ -54,7 +70,8 @@ COUNTING = (
     (shows_free_choice, (None,)), (shows_free_choice, (7,)), (ranks, ()), (shows_ranks, (None,)),
     (shows_ranks, ((),)), (is_honest, ()), (least_delay, ()), (bound, ()), (two_stories, ()),
     (shows_two_stories, (None,)), (shows_two_stories, (((), ()),)), (late_mill, ()), (shows_late, (None,)),
-    (shows_late, (LATE,)), (are_alike, (samples.AT_601,)), (unlike_word, (samples.AT_601,)))
+    (shows_late, (LATE,)), (are_alike, (samples.AT_601,)), (unlike_word, (samples.AT_601,)),
+    (open_tellings, ((0,),)), (sure, ((0,),)), (count_parts, ((0,),)), (owed_most, ()), (Bench, ()), (reads_back, ()))
 
 
 class ArgumentsTest(unittest.TestCase):

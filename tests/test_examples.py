@@ -2,9 +2,11 @@
 
 import unittest
 
+from merelylate.benches import Bench
 from merelylate.choices import (
     bound, free_choice, is_honest, least_delay, ranks, shows_free_choice, shows_ranks, shows_two_stories, two_stories)
-from merelylate.errors import BadLate, BadMill, NotHonest
+from merelylate.errors import BadLate, BadMill, BadStep, NotHonest
+from merelylate.futures import count_parts, open_tellings, owed_most, sure
 from merelylate.late import are_alike, late_mill, run_late, shows_late, unlike_word
 from merelylate.mills import holds, is_history, reach, tells
 from merelylate.paradoxes import closed_sets, is_paradox, paradox, shows_closed_sets
@@ -72,6 +74,24 @@ class ExamplesTest(unittest.TestCase):
         with self.assertRaises(BadLate) as caught:
             run_late((((1, None),),), (0,))
         self.assertEqual(caught.exception.index, 0)
+
+    def test_futures(self):
+        ahead = (2, ((2, 0),), (0,), ((("of", 0, 0), ("in", 1)),))
+        self.assertEqual(
+            [open_tellings(ahead, (1, 0)), sure(ahead, (1, 0)), count_parts(ahead, (1, 0, 1)), owed_most(ahead)],
+            [(((0,), (0,)), ((0,), (1,))), ((0,), None), 2, ((0,), 1)])
+
+    def test_benches(self):
+        bench = Bench((2, ((2, 0),), (0,), ((("of", 0, 0), ("in", 1)),)))
+        self.assertEqual(
+            [bench.read(1), bench.left, bench.read(0), bench.sure(), bench.back(), bench.letters],
+            [((0,), (1,)), (((1, 0),), ((1, 1),)), ((0,), (1,)), ((1, 0), None), None, (1,)])
+        other = Bench((2, ((2, 0),), (0,), ((("of", 0, 0), ("in", 1)),)))
+        self.assertEqual(
+            [other.read(1), other.choose(((1, 1),)), other.left, other.read(1), other.sure()],
+            [((0,), (1,)), None, (((1, 1),),), ((0,), (1,)), ((1, 1), None)])
+        with self.assertRaises(BadStep):
+            Bench((2, ((2, 0),), (0,), ())).back()
 
 
 if __name__ == "__main__":
