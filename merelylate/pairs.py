@@ -124,7 +124,3 @@ class Pairs:
                 trail[after] = True
                 rests.append(self.onward(after))
                 best.append(0)
-
-    def endless_on(self, pair, letter):
-        """The pairs to which a letter leads a pair and from which letters lead on for ever."""
-        return [after for after in self.afters(pair, letter) if self.depth(after) == ENDLESS]
