@@ -9,6 +9,33 @@ from naive import Slow, small
 from merelylate.choices import bound, is_honest, least_delay, shows_two_stories, two_stories
 from merelylate.windows import live_windows
 
+
+def same_all(*pairs):
+    """A term that is 1 if four names are these four numbers."""
+    one, two, three, four = [("same", ("of",) + name, ("is", number)) for name, number in pairs]
+    return ("times", ("times", one, two), ("times", three, four))
+
+
+def told_after_237_ticks():
+    """A mill that tells all at once but for the tick of number 237, and some that come still later.
+
+    As long as the letter is 0 the first name goes through a turn of 242 sums, and the others keep what it
+    was: the second one two ticks ago, the third one four. A letter 1 makes all of them 1, as at first. At
+    one place of the turn the third name, which is told, must be the letter that comes next.
+    """
+    begun = ("plus", ("in", 0), ("in", -1))
+    here = same_all(((0, -1), 1), ((0, -2), 2), ((1, -1), 2), ((2, -1), 0))
+    behind = same_all(((0, -2), 1), ((1, -1), 2), ((1, -2), 2), ((2, -2), 0))
+    total = ("plus", ("plus", ("of", 1, -1), ("of", 1, -2)), ("of", 2, -2))
+    return (2, ((3, 1),) * 3, (2,), (
+        (("of", 0, 0), ("pick", begun, ("is", 1), ("rest", total, 3))),
+        (("of", 1, 0), ("pick", begun, ("is", 1), ("of", 0, -2))),
+        (("pick", here, ("is", 0), ("of", 2, 0)), ("pick", here, ("is", 0), (
+            "pick", begun, ("is", 1), ("of", 1, -2)))),
+        (("times", ("in", 0), ("of", 2, 0)), ("in", 0)),
+        (("times", behind, ("of", 2, -1)), ("times", behind, ("in", 0)))))
+
+
 NOT_HONEST = (samples.LONE, samples.FREE, samples.BARRED, samples.STUCK, samples.AHEAD_BARRED, samples.LONE_BARRED)
 DELAYS = ((samples.PLAIN, 0), (samples.BACK, 0), (samples.DYING, 0), (samples.AHEAD, 1), (samples.NEXT_BUT_ONE, 2),
           (samples.counting(2), 7), (samples.counting(3), 7))
@@ -165,10 +192,20 @@ class StoriesTest(unittest.TestCase):
         self.assertLessEqual({None, 1, 2}, found)
 
     def test_too_many_columns(self):
+        mill = told_after_237_ticks()
+        self.assertEqual(least_delay(mill), 1)
+        self.assertEqual(samples.fields_of(two_stories, mill), ("TooMany", 200))
+        for value in (None, (((0, 1, 1, 0),), ((0, 1, 1, 1),))):
+            self.assertIs(shows_two_stories(mill, value), False)
+        # The columns that it finds are as few as can be: with more of them allowed there is an answer.
+        with unittest.mock.patch("merelylate.choices.MOST_COLUMNS", 237):
+            self.assertEqual(samples.fields_of(two_stories, mill), ("TooMany", 237))
+        with unittest.mock.patch("merelylate.choices.MOST_COLUMNS", 238):
+            self.assertEqual([len(row) for row in two_stories(mill)], [238, 238])
+
+    def test_as_few_columns_as_can_be(self):
         mill = samples.counting(2)
         self.assertEqual(len(two_stories(mill)[0]), 7)
-        with unittest.mock.patch("merelylate.choices.MOST_COLUMNS", 7):
-            self.assertEqual(len(two_stories(mill)[0]), 7)
         with unittest.mock.patch("merelylate.choices.MOST_COLUMNS", 6):
             self.assertEqual(samples.fields_of(two_stories, mill), ("TooMany", 6))
 
