@@ -16,29 +16,28 @@ class Couple:
         self.pairs = Pairs(first.live, second.live, False)
         self.rounds = self.pairs.layers()
 
-    def apart_for(self, layer, letters):
-        """The pairs of a layer that tell unlike things and that so many letters lead on, ENDLESS for ever."""
-        return [pair for pair in self.pairs.unlike(layer) if self.lasts(pair, letters)]
+    def apart_in(self, layer):
+        """The pairs of a layer that tell unlike things to one input for ever."""
+        return [pair for pair in self.pairs.unlike(layer) if self.goes_on(pair)]
 
-    def lasts(self, pair, letters):
-        """Whether so many letters lead a pair on."""
-        depth = self.pairs.depth(pair)
-        return depth == ENDLESS or 0 <= letters <= depth
+    def goes_on(self, pair):
+        """Whether letters lead a pair on for ever."""
+        return self.pairs.depth(pair) == ENDLESS
 
     def tell_the_same(self):
         """Whether no input makes the mills tell unlike things."""
-        return not any([self.apart_for(layer, ENDLESS) for layer in self.rounds])
+        return not any([self.apart_in(layer) for layer in self.rounds])
 
     def least_word(self):
         """The least of the shortest words at whose last letter their late mills tell unlike things."""
         for number, layer in enumerate(self.rounds):
-            apart = self.apart_for(layer, self.late)
+            apart = self.apart_in(layer)
             if apart:
                 return self.word_to(apart, number)
         return None
 
     def word_to(self, apart, number):
-        """The least word that leads to some pairs of the round of a number, and then on."""
+        """The least word that leads to some pairs of the round of a number, and on until both tell that tick."""
         lots = [{pair: True for pair in apart}]
         # A shortest way goes through the rounds one by one.
         for layer in self.rounds[:number][::-1]:
@@ -48,8 +47,9 @@ class Couple:
         for lot in lots[::-1]:
             letter, now = self.least_step(now, lambda after: after in lot)
             word.append(letter)
-        for rest in range(self.late - 1, -1, -1):
-            letter, now = self.least_step(now, lambda after: self.lasts(after, rest))
+        # No word is a paradox, so that what both tell behind the last letter some endless input shows, too.
+        for _ in range(self.late):
+            letter, now = self.least_step(now, lambda after: self.goes_on(after))
             word.append(letter)
         return tuple(word)
 

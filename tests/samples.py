@@ -38,21 +38,32 @@ AT_600 = AT_601[:3] + (AT_601[3] + ((("less", times(
     ("in", -1), ("of", 0, -1), ("of", 1, -1), ("of", 2, -1)), ("is", 9)), ("is", 1)),),)
 
 
+def at_turn(one, other):
+    """A term that is 1 where the last two values of the name 2 are these."""
+    return ("times", ("same", ("of", 2, -2), ("is", one)), ("same", ("of", 2, -1), ("is", other)))
+
+
+# The name 2 is a sum of its last two values, in turns of eight ticks. The name 1 is any value at the
+# beginning of a turn, goes on from that, and must be the letter at the last but one tick of the turn.
+TURNS = (("of", 2, 0), ("rest", ("plus", ("of", 2, -1), ("of", 2, -2)), 3))
+ASKED = (("pick", at_turn(0, 1), ("in", 0), ("of", 1, 0)), ("of", 1, 0))
+
+
 def counting(letters):
-    """A mill that is 7 ticks late, with so many letters.
-
-    One of its names counts: a sum of its last two values, in turns of eight ticks. Another one is any
-    value at the beginning of a turn, is kept, and must be the letter at the last but one tick of the turn.
-    """
-    begun = ("times", ("same", ("of", 2, -2), ("is", 1)), ("same", ("of", 2, -1), ("is", 1)))
-    asked = ("times", ("same", ("of", 2, -2), ("is", 0)), ("same", ("of", 2, -1), ("is", 1)))
+    """A mill that is 7 ticks late, with so many letters: it tells the name 1, which is kept, and the letter."""
     return (letters, ((letters, 0), (letters, 0), (3, 1)), (0, 1), (
-        (("of", 0, 0), ("in", 0)),
-        (("of", 2, 0), ("rest", ("plus", ("of", 2, -1), ("of", 2, -2)), 3)),
-        (("pick", begun, ("of", 1, 0), ("of", 1, -1)), ("of", 1, 0)),
-        (("pick", asked, ("in", 0), ("of", 1, 0)), ("of", 1, 0))))
+        (("of", 0, 0), ("in", 0)), TURNS, (("pick", at_turn(1, 1), ("of", 1, 0), ("of", 1, -1)), ("of", 1, 0)), ASKED))
 
 
+# The same, but that the name 1 is 0 and 1 in turn; and that only what it is at the beginning is told.
+ALTERNATING = (2, ((2, 0), (2, 0), (3, 1)), (1,), (
+    (("of", 0, 0), ("is", 0)), TURNS,
+    (("pick", at_turn(1, 1), ("of", 1, 0), ("same", ("of", 1, -1), ("is", 0))), ("of", 1, 0)), ASKED))
+TOLD_ONCE = (2, ((2, 0), (2, 0), (3, 1)), (0,), (
+    (("of", 0, 0), ("pick", at_turn(1, 1), ("of", 1, 0), ("is", 0))),) + counting(2)[3][1:])
+# What is told is what another name, which is not told, was before: the same for ever, or the letter two ticks later.
+KEPT_AND_TOLD = (1, ((2, 0), (2, 0)), (1,), ((("of", 0, 0), ("of", 0, 1)), (("of", 1, 0), ("of", 0, -2))))
+READ_AND_TOLD = (2, ((2, 0), (2, 0)), (1,), ((("of", 0, 0), ("in", 2)), (("of", 1, 0), ("of", 0, -1))))
 # A next letter and the one behind it; the latter with a paradox, or a free choice, besides.
 NEXT_BUT_ONE = (2, ((2, 0),), (0,), ((("of", 0, 0), ("in", 2)),))
 AHEAD_BARRED = (2, ((2, 0),), (0,), (

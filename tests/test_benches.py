@@ -2,6 +2,7 @@
 
 import random
 import unittest
+import unittest.mock
 
 import samples
 from naive import Slow, small
@@ -204,6 +205,14 @@ class BenchTest(unittest.TestCase):
         for _ in range(9):
             other.read(1)
         self.unchanged(other, ("TooMany", 20000), other.read, 1)
+
+    def test_as_many_rows_as_may_be(self):
+        bench = Bench(samples.FREE)
+        with unittest.mock.patch("merelylate.benches.MOST_WAYS", 4):
+            bench.read(0)
+            bench.read(1)
+            self.assertEqual(len(bench.left), 4)
+            self.unchanged(bench, ("TooMany", 4), bench.read, 1)
 
     def test_more_letters_than_a_word_has(self):
         bench = Bench(samples.LONE)

@@ -7,12 +7,24 @@ import unittest.mock
 import samples
 from naive import Slow, small
 from merelylate.choices import free_choice, ranks, shows_free_choice, shows_ranks
+from merelylate.choices import sides_of
+from merelylate.lassos import shortened, shortest_lasso
+from merelylate.live import Live
+from merelylate.mates import Mates
 from merelylate.mills import is_history
+from merelylate.pairs import ENDLESS
+from merelylate.stories import some_lasso
 from merelylate.windows import live_windows, windows
 
 # The second name is free, the first one is told.
 HIDDEN = (2, ((2, 0), (2, 0)), (0,), ((("of", 0, 0), ("in", 0)),))
 SHOWN = HIDDEN[:2] + ((0, 1),) + HIDDEN[3:]
+
+# Only behind two letters 1, not one behind the other, the second name, which is told, is free.
+COUNTED = ("pick", ("in", 0), ("pick", ("in", -1), ("of", 0, -1), ("plus", ("of", 0, -1), ("is", 1))), ("of", 0, -1))
+FREE_LATER = (2, ((3, 0), (2, 0)), (1,), (
+    (("of", 0, 0), ("pick", ("same", ("of", 0, -1), ("is", 2)), ("is", 2), COUNTED)),
+    (("pick", ("same", ("of", 0, 0), ("is", 2)), ("is", 0), ("of", 1, 0)), ("is", 0))))
 
 
 def counted(told, step):
@@ -32,13 +44,24 @@ class FreeChoiceTest(unittest.TestCase):
             self.assertIs(shows_free_choice(mill, None), True)
 
     def test_mills_with_one(self):
-        for mill in (samples.LONE, samples.FREE, SHOWN, samples.LONE_BARRED, samples.MANY_SETS):
+        for mill in (samples.LONE, samples.FREE, SHOWN, samples.LONE_BARRED, samples.MANY_SETS, samples.KEPT_AND_TOLD):
             value = free_choice(mill)
             self.assertIs(shows_free_choice(mill, value), True)
             self.assertIs(shows_free_choice(mill, value[::-1]), True)
             self.assertIs(shows_free_choice(mill, None), False)
             for side in value:
                 self.assertIs(is_history(mill, side), True)
+
+    def test_one_that_comes_late(self):
+        (one, loop), (other, other_loop) = free_choice(FREE_LATER)
+        for stem in (one + loop, other + other_loop):
+            letters = "".join([str(column[0]) for column in stem])
+            self.assertEqual(letters[:3], "101")
+        self.assertIs(shows_free_choice(FREE_LATER, free_choice(FREE_LATER)), True)
+        with unittest.mock.patch("merelylate.choices.MOST_COLUMNS", 3):
+            self.assertIs(shows_free_choice(FREE_LATER, free_choice(FREE_LATER)), True)
+        with unittest.mock.patch("merelylate.choices.MOST_COLUMNS", 2):
+            self.assertEqual(samples.fields_of(free_choice, FREE_LATER), ("TooMany", 2))
 
     def test_unlike_columns_that_tell_the_same(self):
         one, other = ((), ((0, 0, 0),)), ((), ((0, 0, 1),))
@@ -95,7 +118,7 @@ class FreeChoiceTest(unittest.TestCase):
         value = free_choice(samples.LONE)
         for odd in samples.spoiled(value):
             self.assertIs(shows_free_choice(samples.LONE, odd), False, odd)
-        for odd in samples.NOTHINGS + (samples.nested(30000), (value,), value + value, (value[0], None)):
+        for odd in samples.NOTHINGS + (samples.nested(30000), (value,), value + value, value + value[:1], (value[0], None)):
             for mill in (samples.LONE, samples.AHEAD, samples.STUCK):
                 wanted = odd is None and mill != samples.LONE
                 self.assertIs(shows_free_choice(mill, odd), wanted, odd)
@@ -138,8 +161,51 @@ class FreeChoiceTest(unittest.TestCase):
                     # It may find two of unlike lengths where there are none of the same ones.
                     if there or outcome is not None:
                         self.assertEqual(outcome, None if there else ("TooMany", 3), mill)
+                    if outcome is None:
+                        self.assertIs(shows_free_choice(mill, free_choice(mill)), True)
                 outcomes.add(there)
         self.assertEqual(outcomes, {True, False})
+
+    def test_the_shortest_stem_and_loop(self):
+        lengths = set()
+        for mill in small(samples.likely_mills(64, 900) + samples.random_mills(64, 600), 40):
+            mates = Mates(Live(mill))
+            lasso = some_lasso(mates)
+            if lasso is not None:
+                shortest = shortest_lasso(mates, lasso)
+                self.assertIs(shows_free_choice(mill, sides_of(mates.live, shortest)), True, mill)
+                before, after = [len(stem) + len(loop) for stem, loop in (lasso, shortest)]
+                if after < before and after < 6:
+                    self.assertEqual(after, fewest_pairs(mates), mill)
+                    lengths.add((len(shortest[0]), len(shortest[1])))
+        self.assertGreaterEqual(max(loop for _, loop in lengths), 2)
+        self.assertGreaterEqual(max(stem for stem, _ in lengths), 2)
+
+    def test_columns_made_shorter(self):
+        for stem, loop, wanted in (
+                ("", "a", ("", "a")), ("", "aaa", ("", "a")), ("aa", "a", ("", "a")), ("ab", "a", ("ab", "a")),
+                ("a", "ba", ("", "ab")), ("ab", "cb", ("a", "bc")), ("abcbc", "bc", ("a", "bc")),
+                ("xabcab", "cabcab", ("x", "abc")), ("", "abab", ("", "ab")), ("", "abaab", ("", "abaab")),
+                ("b", "ab", ("", "ba")), ("ba", "aba", ("", "baa")), ("", "aabaab", ("", "aab"))):
+            self.assertEqual(shortened(list(stem), list(loop)), (tuple(wanted[0]), tuple(wanted[1])), (stem, loop))
+
+
+def fewest_pairs(mates):
+    """The fewest pairs of a stem and a loop that told unlike things, by all ways of one pair more and more."""
+    pairs, live = mates.pairs, mates.live
+    start = (live.starts[0], live.starts[0])
+
+    def behind(pair):
+        return {after for letter in range(live.many_letters) for after in pairs.afters(pair, letter)
+                if pairs.depth(after) == ENDLESS}
+    ways = [(pair,) for pair in behind(start)]
+    while True:
+        for way in ways:
+            told_unlike = any(live.told[one] != live.told[other] for one, other in way)
+            if told_unlike and behind(way[-1]) & set(way):
+                return len(way)
+        # A way that comes to a pair again has what it told unlike before it, or could have been shorter.
+        ways = [way + (pair,) for way in ways for pair in behind(way[-1])]
 
 
 class RanksTest(unittest.TestCase):
@@ -162,12 +228,14 @@ class RanksTest(unittest.TestCase):
         pairs = ranks(samples.NEXT_BUT_ONE)
         self.assertEqual({rank for _, rank in pairs}, {0, 1})
         self.assertIs(shows_ranks(samples.NEXT_BUT_ONE, pairs), True)
-        self.assertEqual({rank for _, rank in ranks(samples.counting(2))}, set(range(7)))
+        for mill in (samples.counting(2), samples.ALTERNATING, samples.TOLD_ONCE):
+            self.assertEqual({rank for _, rank in ranks(mill)}, set(range(7)))
 
     def test_the_same_as_by_rounds(self):
         found = set()
         for mill in small(samples.random_mills(71, 300) + samples.random_mills(72, 300, 0, 1) + [
-                samples.AHEAD, samples.NEXT_BUT_ONE, samples.AHEAD_BARRED, samples.LONE_BARRED]):
+                samples.AHEAD, samples.NEXT_BUT_ONE, samples.AHEAD_BARRED, samples.LONE_BARRED, samples.TOLD_ONCE,
+                samples.READ_AND_TOLD, samples.ALTERNATING], 60):
             wanted = Slow(mill).ranks()
             self.assertEqual(ranks(mill), wanted, mill)
             self.assertIs(shows_ranks(mill, wanted), wanted is not None)

@@ -38,7 +38,8 @@ def told_after_237_ticks():
 
 NOT_HONEST = (samples.LONE, samples.FREE, samples.BARRED, samples.STUCK, samples.AHEAD_BARRED, samples.LONE_BARRED)
 DELAYS = ((samples.PLAIN, 0), (samples.BACK, 0), (samples.DYING, 0), (samples.AHEAD, 1), (samples.NEXT_BUT_ONE, 2),
-          (samples.counting(2), 7), (samples.counting(3), 7))
+          (samples.READ_AND_TOLD, 1), (samples.counting(2), 7), (samples.counting(3), 7), (samples.ALTERNATING, 7),
+          (samples.TOLD_ONCE, 7))
 
 
 class HonestTest(unittest.TestCase):
@@ -112,11 +113,13 @@ class StoriesTest(unittest.TestCase):
                 self.assertIs(shows_two_stories(mill, value), False)
 
     def test_answers(self):
-        for mill in (samples.AHEAD, samples.NEXT_BUT_ONE, samples.counting(2)):
+        for mill in (samples.AHEAD, samples.NEXT_BUT_ONE, samples.counting(2), samples.READ_AND_TOLD,
+                     samples.ALTERNATING, samples.TOLD_ONCE):
             value = two_stories(mill)
             self.assertIs(shows_two_stories(mill, value), True)
             self.assertIs(shows_two_stories(mill, value[::-1]), True)
             self.assertIs(shows_two_stories(mill, (value[0], value[0])), False)
+            self.assertIs(shows_two_stories(mill, value + value[:1]), False)
             self.assertIs(shows_two_stories(mill, None), False)
 
     def test_the_tick_before_the_end(self):
@@ -201,7 +204,23 @@ class StoriesTest(unittest.TestCase):
         with unittest.mock.patch("merelylate.choices.MOST_COLUMNS", 237):
             self.assertEqual(samples.fields_of(two_stories, mill), ("TooMany", 237))
         with unittest.mock.patch("merelylate.choices.MOST_COLUMNS", 238):
-            self.assertEqual([len(row) for row in two_stories(mill)], [238, 238])
+            value = two_stories(mill)
+        self.assertEqual([len(row) for row in value], [238, 238])
+        self.assertIs(shows_two_stories(mill, value), False)
+        with unittest.mock.patch("merelylate.checks.MOST_COLUMNS", 238):
+            self.assertIs(shows_two_stories(mill, value), True)
+
+    def test_stories_that_begin_alike(self):
+        # The first name counts on from a letter 1; at 2 the next letter is told, otherwise 0.
+        mill = (2, ((3, 0), (2, 0)), (1,), (
+            (("of", 0, 0), ("pick", ("of", 0, -1), ("rest", ("plus", ("of", 0, -1), ("is", 1)), 3), ("in", 0))),
+            (("of", 1, 0), ("pick", ("same", ("of", 0, 0), ("is", 2)), ("in", 1), ("is", 0)))))
+        self.assertEqual(least_delay(mill), 1)
+        one, other = two_stories(mill)
+        self.assertEqual([column[:2] for column in one], [column[:2] for column in other])
+        self.assertEqual(one[0][:2], (1, 1))
+        self.assertEqual(len(one), 2)
+        self.assertIs(shows_two_stories(mill, (one, other)), True)
 
     def test_as_few_columns_as_can_be(self):
         mill = samples.counting(2)

@@ -1,6 +1,7 @@
 """Points 10 and 11: what may be told, what is sure, and what is owed."""
 
 import unittest
+import unittest.mock
 
 import samples
 from naive import Slow, small
@@ -13,6 +14,8 @@ SEVERAL = (2, ((2, 0), (3, 0), (2, 1)), (0, 2), ((("of", 0, 0), ("in", 1)), (("o
 THREE_FREE = (1, ((3, 0),), (0,), ())
 # The letter is told, another name is free.
 UNTOLD = (2, ((2, 0), (3, 0)), (0,), ((("of", 0, 0), ("in", 0)),))
+# The next letter; but behind a 1 the one behind it, so that a tick gets sure while the next one is owed.
+LONGER_BEHIND_1 = (2, ((2, 0),), (0,), ((("of", 0, 0), ("pick", ("in", -1), ("in", 2), ("in", 1))),))
 WORDS = ((), (0,), (1,), (0, 1), (1, 1), (1, 0, 1), (1, 1, 0, 0))
 
 
@@ -129,6 +132,19 @@ class OwedTest(unittest.TestCase):
             "less", ("in", 1), ("in", 2)), ("is", 1))),))
         self.assertEqual(owed_most(third), ((2, 0), 2))
 
+        self.assertEqual(owed_most(LONGER_BEHIND_1), ((1, 0, 0), 2))
+
+    def test_the_limits_are_reached(self):
+        with unittest.mock.patch("merelylate.tellings.MOST_WAYS", 8):
+            self.assertEqual(len(open_tellings(samples.FREE, (0,) * 3)), 8)
+            for call in (open_tellings, sure):
+                self.assertEqual(samples.fields_of(call, samples.FREE, (0,) * 4), ("TooMany", 8))
+        # Behind no letter, one, and each two of them there are 1, 2 and 4 lots of what is owed.
+        for most in range(6, 10):
+            with unittest.mock.patch("merelylate.tellings.MOST_OWED", most):
+                wanted = ("TooMany", most) if most < 7 else None
+                self.assertEqual(samples.fields_of(owed_most, samples.NEXT_BUT_ONE), wanted)
+
     def test_not_honest(self):
         for mill in (samples.LONE, samples.FREE, samples.BARRED, samples.STUCK, samples.MANY_SETS):
             self.assertEqual(samples.fields_of(owed_most, mill), ("NotHonest",))
@@ -140,7 +156,7 @@ class OwedTest(unittest.TestCase):
 
     def test_the_least_delay_and_the_least_word(self):
         mills = samples.likely_mills(114, 500) + samples.random_mills(115, 200) + [
-            samples.AHEAD, samples.NEXT_BUT_ONE, samples.DYING]
+            samples.AHEAD, samples.NEXT_BUT_ONE, samples.DYING, LONGER_BEHIND_1]
         found = set()
         for mill in small(mills):
             if is_honest(mill):

@@ -106,6 +106,11 @@ class BesideTest(unittest.TestCase):
             (("pick", IN, ("in", 1), ("of", 1, 0)), ("rest", ("pick", ("of", 1, 0), ("is", 7), ("plus", IN, IN)), 3)),
             (("of", 2, 0), ("is", 2))))
 
+    def test_numbers_behind_two_names(self):
+        mill = beside(SECOND, (3, ((2, 1),), (0,), EVERYWHERE_ONE[1:2]))
+        self.assertEqual(mill, (3, ((3, 2), (2, 0), (2, 1)), (1, 2), SECOND[3] + (
+            (("same", IN, ("of", 2, -1)), ("less", ("in", 1), ("in", 2))),)))
+
     def test_letters(self):
         for one, other in itertools.product((1, 2, 3), repeat=2):
             wanted = None if one == other else ("NotAlike",)

@@ -3,6 +3,7 @@
 import itertools
 import random
 import unittest
+import unittest.mock
 
 import samples
 from naive import Slow, small
@@ -140,6 +141,13 @@ class LateTest(unittest.TestCase):
         # No sets with what is owed are reckoned to see whether a machine is one.
         self.assertIs(shows_late(samples.counting(3), AHEAD_LATE), False)
         self.assertGreater(len(late_mill(samples.counting(2))), 1000)
+
+    def test_the_limit_is_reached(self):
+        # Behind no letter, one, and each two of them there are 1, 2 and 4 sets with what isn't told yet.
+        for most in range(5, 9):
+            with unittest.mock.patch("merelylate.lateness.MOST_STATES", most):
+                wanted = ("TooMany", most) if most < 7 else None
+                self.assertEqual(samples.fields_of(late_mill, samples.NEXT_BUT_ONE), wanted)
 
     def test_shows_the_answer_of_a_large_one(self):
         mill = samples.counting(2)

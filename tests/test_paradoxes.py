@@ -2,6 +2,7 @@
 
 import itertools
 import unittest
+import unittest.mock
 
 import samples
 from naive import Slow, small
@@ -188,6 +189,24 @@ class ShowsClosedSetsTest(unittest.TestCase):
             self.assertIs(is_paradox(mill, (0, 1) * 30), False)
             self.assertIs(shows_closed_sets(mill, None), False)
             self.assertIs(shows_closed_sets(mill, (sets_through(mill, ())[0],)), False)
+
+    def test_the_limit_is_reached(self):
+        for mill, sets in ((samples.FREE, 3), (samples.AHEAD, 3), (samples.PLAIN, 2)):
+            for most in (1, 2, 3):
+                with unittest.mock.patch("merelylate.subsets.MOST_SETS", most):
+                    wanted = ("TooMany", most) if most < sets else None
+                    self.assertEqual(samples.fields_of(closed_sets, mill), wanted)
+                    self.assertEqual(samples.fields_of(paradox, mill), wanted)
+
+    def test_a_paradox_comes_before_too_many(self):
+        for mill in (samples.BARRED, THREE_BARRED, ONE_BARRED, PARTLY):
+            slow = Slow(mill)
+            words = [word for length in range(4) for word in slow.words(length)]
+            sets = len({slow.set_of(word) for word in words[:words.index(slow.paradox())]})
+            for most in range(1, 12):
+                with unittest.mock.patch("merelylate.subsets.MOST_SETS", most):
+                    wanted = ("TooMany", most) if most < sets else None
+                    self.assertEqual(samples.fields_of(paradox, mill), wanted, mill)
 
 
 if __name__ == "__main__":

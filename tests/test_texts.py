@@ -229,6 +229,9 @@ class ReadTest(unittest.TestCase):
         for inner in ("pick(x, x, x)", "rest(x, 2)"):
             self.read_side("(" * 39 + inner + ")" * 39)
             self.wrong_equation("(" * 40 + inner + ")" * 40 + " = x")
+        # Brackets that are closed again count no more.
+        self.wrong_equation("x = (x) + (x) + " + "(" * 41 + "x" + ")" * 41)
+        self.assertEqual(self.read_side("(x) + ((x)) + " + "(" * 40 + "x" + ")" * 40), plus(plus(X, X), X))
         self.wrong_equation("(" * 5000 + "x" + ")" * 5000 + " = x")
 
     def test_200_signs(self):
