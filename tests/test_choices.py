@@ -233,9 +233,9 @@ class RanksTest(unittest.TestCase):
 
     def test_the_same_as_by_rounds(self):
         found = set()
-        for mill in small(samples.random_mills(71, 300) + samples.random_mills(72, 300, 0, 1) + [
+        for mill in small(samples.random_mills(71, 300) + samples.random_mills(72, 300, 0, 1)) + [
                 samples.AHEAD, samples.NEXT_BUT_ONE, samples.AHEAD_BARRED, samples.LONE_BARRED, samples.TOLD_ONCE,
-                samples.READ_AND_TOLD, samples.ALTERNATING], 60):
+                samples.READ_AND_TOLD, samples.ALTERNATING]:
             wanted = Slow(mill).ranks()
             self.assertEqual(ranks(mill), wanted, mill)
             self.assertIs(shows_ranks(mill, wanted), wanted is not None)
