@@ -1,13 +1,15 @@
 """Whether arguments are what they must be; if not, the error that says so."""
 
-from merelylate.errors import BadColumns, BadLetters, BadMill, BadWindow
-from merelylate.kinds import is_tuple, is_within
+from merelylate.errors import BadColumns, BadLetters, BadMill, BadNumber, BadSplit, BadWeights, BadWindow
+from merelylate.kinds import is_ascending, is_tuple, is_within
 from merelylate.terms import are_equations, looks, window_length
 
 MOST_LETTERS = 3
 MOST_NAMES = 3
 MOST_COLUMNS = 200
 LONGEST_WORD = 60
+MOST_WEIGHT = 100
+MOST_TICKS = 60
 
 
 def check_mill(mill):
@@ -45,11 +47,14 @@ def is_name(value):
 
 def are_told(value, names):
     """Whether a value is an ascending tuple of some of so many names."""
-    if not is_tuple(value, 1, names):
+    return are_numbers(value, names) and len(value) > 0
+
+
+def are_numbers(value, many):
+    """Whether a value is an ascending tuple of numbers from 0 on, all less than so many."""
+    if not is_tuple(value, 0, many) or not all([is_within(one, 0, many - 1) for one in value]):
         return False
-    if not all([is_within(name, 0, names - 1) for name in value]):
-        return False
-    return list(value) == sorted(set(value))
+    return is_ascending(value)
 
 
 def is_letter(mill, value):
@@ -118,3 +123,46 @@ def check_word(mill, letters):
         raise BadLetters("no tuple of letters, or too long a one")
     for letter in letters:
         check_letter(mill, letter)
+
+
+def check_looping_word(mill, word):
+    """Raise BadLetters unless a value is a stem and a loop of the mill's letters."""
+    if not is_tuple(word, 2, 2) or not all([is_tuple(part, 0, LONGEST_WORD) for part in word]):
+        raise BadLetters("no pair of tuples of letters, or too long ones")
+    if not word[1]:
+        raise BadLetters("an empty loop")
+    check_word(mill, word[0] + word[1])
+
+
+def check_lot(mill, lot):
+    """Raise BadNumber unless a value is an ascending tuple of numbers of the mill's equations."""
+    if not are_numbers(lot, len(mill[3])):
+        raise BadNumber("no ascending tuple of numbers of equations")
+
+
+def check_split(mill, split):
+    """Raise BadSplit unless a value is a split of the mill's letters."""
+    if not is_split(split, mill[0]):
+        raise BadSplit("no ascending tuple of ascending tuples that have each letter once")
+
+
+def is_split(value, letters):
+    """Whether a value is an ascending tuple of ascending tuples, none empty, that have each letter once."""
+    if not is_tuple(value, 1, letters):
+        return False
+    if not all([are_numbers(part, letters) and len(part) > 0 for part in value]):
+        return False
+    found = [letter for part in value for letter in part]
+    return is_ascending([part[0] for part in value]) and sorted(found) == list(range(letters))
+
+
+def check_weights(mill, weights):
+    """Raise BadWeights unless a value is a tuple of a weight for each letter of the mill."""
+    if not is_tuple(weights, mill[0], mill[0]) or not all([is_within(one, 1, MOST_WEIGHT) for one in weights]):
+        raise BadWeights("no tuple of a weight from 1 to 100 for each letter")
+
+
+def check_ticks(ticks):
+    """Raise BadNumber unless a value is a number of ticks that may be asked for."""
+    if not is_within(ticks, 0, MOST_TICKS):
+        raise BadNumber("no number of ticks from 0 to 60")

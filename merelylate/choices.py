@@ -7,10 +7,9 @@ from merelylate.errors import TooMany
 from merelylate.kinds import is_tuple, is_within
 from merelylate.lassos import shortened, shortest_lasso
 from merelylate.live import Live
-from merelylate.mates import Mates, honest_mates
+from merelylate.mates import Mates, are_honest, honest_mates
 from merelylate.mills import is_history, told_by, unrolled
 from merelylate.stories import latest_story, some_lasso
-from merelylate.subsets import sets_that_come
 
 MOST_RANK = 200000
 
@@ -119,17 +118,14 @@ def ranks_given(live, value):
 def is_honest(mill):
     """Whether the mill has neither a free choice nor a paradox."""
     check_mill(mill)
-    mates = Mates(Live(mill))
-    return not mates.have_choice() and sets_that_come(mates.live)[1] is None
+    return are_honest(Mates(Live(mill)))
 
 
 def least_delay(mill):
     """How many ticks late an honest mill can tell all at the earliest, None if it isn't honest."""
     check_mill(mill)
     mates = Mates(Live(mill))
-    if mates.have_choice() or sets_that_come(mates.live)[1] is not None:
-        return None
-    return mates.delay()
+    return mates.delay() if are_honest(mates) else None
 
 
 def bound(mill):

@@ -3,7 +3,9 @@
 from merelylate.checks import check_mill, check_word
 from merelylate.live import Live
 from merelylate.mates import honest_mates
-from merelylate.tellings import owed_by_words, shared, told_by_word
+from merelylate.tellings import Owed, shared, told_by_word
+
+MOST_OWED = 2000
 
 
 def open_tellings(mill, letters):
@@ -39,8 +41,7 @@ def count_parts(mill, letters):
 def owed_most(mill):
     """The least of the shortest words behind which most ticks are owed, and how many these are."""
     check_mill(mill)
-    found, words = owed_by_words(honest_mates(mill).live)
-    # All rows of one lot are as long.
-    numbers = [len(owed[0][1]) for owed in found]
+    owed = Owed(honest_mates(mill).live, MOST_OWED)
+    numbers = owed.numbers_owed()
     most = max(numbers)
-    return words[numbers.index(most)], most
+    return owed.words[numbers.index(most)], most

@@ -1,5 +1,6 @@
 """Stems and loops: the shortest ones of pairs that are a free choice, and columns made shorter."""
 
+from merelylate.graphs import way_back, way_round
 from merelylate.pairs import ENDLESS
 
 
@@ -48,23 +49,8 @@ class Endless:
 
         Unlike things must have been told by then. None if there are no such pairs.
         """
-        goal = (state[0], True)
-        found = [state]
-        sources = [-1]
-        lengths = [1]
-        known = {state: True}
-        at = 0
-        while at < len(found) and lengths[at] <= most:
-            for after in self.onto[found[at]]:
-                if after == goal:
-                    return [found[number][0] for number in way_back(sources, at)]
-                if after not in known:
-                    known[after] = True
-                    found.append(after)
-                    sources.append(at)
-                    lengths.append(lengths[at] + 1)
-            at += 1
-        return None
+        way = way_round(self.onto, state, (state[0], True), most)
+        return None if way is None else [after[0] for after in way]
 
 
 def shortest_lasso(mates, lasso):
@@ -84,16 +70,6 @@ def shortest_lasso(mates, lasso):
         if loop is not None:
             best = stem, loop
     return best
-
-
-def way_back(sources, at):
-    """The numbers on the way from the first to a number, each one's source ahead of it."""
-    way = []
-    now = at
-    while now >= 0:
-        way.append(now)
-        now = sources[now]
-    return way[::-1]
 
 
 def shortened(stem, loop):

@@ -1,29 +1,17 @@
 """Late mills: ordinary machines that tell what an honest mill does, some ticks later."""
 
 from merelylate.checks import check_mill
-from merelylate.errors import BadLetters, NotAlike
-from merelylate.kinds import is_tuple, is_within
+from merelylate.errors import NotAlike
 from merelylate.lateness import late_table, tells_late
 from merelylate.likeness import Couple
-from merelylate.machines import check_late, is_late, smallest
+from merelylate.machines import check_late, is_late, run, smallest
 from merelylate.mates import honest_mates
-
-LONGEST_RUN = 400
 
 
 def run_late(machine, letters):
     """What a late mill tells at each letter."""
     check_late(machine)
-    if not is_tuple(letters, 0, LONGEST_RUN):
-        raise BadLetters("no tuple of letters, or too long a one")
-    if not all([is_within(letter, 0, len(machine[0]) - 1) for letter in letters]):
-        raise BadLetters("no letter of the late mill")
-    now = 0
-    found = []
-    for letter in letters:
-        now, told = machine[now][letter]
-        found.append(told)
-    return tuple(found)
+    return run(machine, letters)
 
 
 def late_mill(mill):

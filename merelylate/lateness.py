@@ -2,6 +2,7 @@
 
 from merelylate.errors import TooMany
 from merelylate.machines import MOST_STATES
+from merelylate.tellings import owed_at_start, owed_behind
 
 
 class Owing:
@@ -10,10 +11,6 @@ class Owing:
     def __init__(self, live, ticks):
         self.live = live
         self.ticks = ticks
-
-    def first(self):
-        """The set that the empty word leads to."""
-        return tuple([(number, ()) for number in self.live.starts])
 
     def step(self, owed, letter):
         """The set to which a letter leads from a set, and what is told at the letter."""
@@ -34,7 +31,7 @@ class Owing:
 def late_table(live, delay):
     """The states of a machine that tells what an honest mill does so many ticks late."""
     owing = Owing(live, delay)
-    sets = [owing.first()]
+    sets = [owed_at_start(live)]
     numbers = {sets[0]: 0}
     table = []
     while len(table) < len(sets):
@@ -71,3 +68,29 @@ def tells_late(machine, live, delay):
                 if row[0] != told or due[after] != row[1:]:
                     return False
     return True
+
+
+def tells_eagerly(machine, live):
+    """Whether a machine tells what an honest mill does as soon as it is sure, and nothing before."""
+    if len(machine[0]) != live.many_letters:
+        return False
+    waiting = [(0, owed_at_start(live))]
+    # If it does, what a window owes depends on the state, the window and the number of ticks alone: both
+    # with it and without it, what is told by the ways that lead on from there follows.
+    due = {place_of(0, waiting[0][1]): waiting[0][1]}
+    while waiting:
+        number, owed = waiting.pop()
+        for letter, (state, told) in enumerate(machine[number]):
+            after, sure = owed_behind(live, owed, letter)
+            place = place_of(state, after)
+            if place not in due:
+                due[place] = after
+                waiting.append((state, after))
+            if sure != told or due[place] != after:
+                return False
+    return True
+
+
+def place_of(state, owed):
+    """A state, the live windows of what is owed, and how many ticks these owe."""
+    return state, tuple([number for number, _ in owed]), len(owed[0][1])

@@ -1,31 +1,33 @@
-"""Machines that tell something at each letter: what a late mill is, and the one with the fewest states."""
+"""Machines that tell something at each letter: late and eager mills, and the ones with the fewest states."""
 
-from merelylate.errors import BadLate
+from merelylate.errors import BadEager, BadLate, BadLetters
 from merelylate.kinds import is_tuple, is_within
 
 MOST_STATES = 2000
 MOST_LETTERS = 3
 MOST_TOLD = 3
+LONGEST_RUN = 400
 
 
-def wrong_state(machine):
-    """The number of the first state by which a tuple of states is no late mill, None for a late mill."""
+def wrong_state(machine, is_told):
+    """The number of the first state by which a tuple of states is no machine, None for a machine.
+
+    Another function says whether a value is what may be told at a letter.
+    """
     for index, state in enumerate(machine):
-        if not is_state(state, len(machine)) or len(state) != len(machine[0]):
+        if not is_state(state, len(machine), is_told) or len(state) != len(machine[0]):
             return index
     return None
 
 
-def is_state(value, many):
-    """Whether a value is a state of a late mill with so many states."""
-    return is_tuple(value, 1, MOST_LETTERS) and all([is_step(part, many) for part in value])
+def is_state(value, many, is_told):
+    """Whether a value is a state of a machine with so many states."""
+    return is_tuple(value, 1, MOST_LETTERS) and all([is_step(part, many, is_told) for part in value])
 
 
-def is_step(value, many):
-    """Whether a value is the number of one of so many states, and something told or None."""
-    if not is_tuple(value, 2, 2) or not is_within(value[0], 0, many - 1):
-        return False
-    return value[1] is None or is_telling(value[1])
+def is_step(value, many, is_told):
+    """Whether a value is the number of one of so many states, and what may be told."""
+    return is_tuple(value, 2, 2) and is_within(value[0], 0, many - 1) and is_told(value[1])
 
 
 def is_telling(value):
@@ -33,18 +35,61 @@ def is_telling(value):
     return is_tuple(value, 1, MOST_TOLD) and all([is_within(one, 0, 2) for one in value])
 
 
+def is_told_late(value):
+    """Whether a value is what a late mill may tell at a letter."""
+    return value is None or is_telling(value)
+
+
+def is_told_eagerly(value):
+    """Whether a value is what an eager mill may tell at a letter."""
+    return isinstance(value, tuple) and all([is_telling(one) for one in value])
+
+
+def are_states(value):
+    """Whether a value is a tuple of so many things as a machine may have states."""
+    return is_tuple(value, 1, MOST_STATES)
+
+
 def is_late(machine):
     """Whether a value is a late mill."""
-    return is_tuple(machine, 1, MOST_STATES) and wrong_state(machine) is None
+    return are_states(machine) and wrong_state(machine, is_told_late) is None
+
+
+def is_eager(machine):
+    """Whether a value is an eager mill."""
+    return are_states(machine) and wrong_state(machine, is_told_eagerly) is None
 
 
 def check_late(machine):
     """Raise BadLate unless a value is a late mill."""
-    if not is_tuple(machine, 1, MOST_STATES):
+    if not are_states(machine):
         raise BadLate(None)
-    index = wrong_state(machine)
+    index = wrong_state(machine, is_told_late)
     if index is not None:
         raise BadLate(index)
+
+
+def check_eager(machine):
+    """Raise BadEager unless a value is an eager mill."""
+    if not are_states(machine):
+        raise BadEager(None)
+    index = wrong_state(machine, is_told_eagerly)
+    if index is not None:
+        raise BadEager(index)
+
+
+def run(machine, letters):
+    """What a machine tells at each letter; BadLetters for any value that is no word of its letters."""
+    if not is_tuple(letters, 0, LONGEST_RUN):
+        raise BadLetters("no tuple of letters, or too long a one")
+    if not all([is_within(letter, 0, len(machine[0]) - 1) for letter in letters]):
+        raise BadLetters("no letter of the machine")
+    now = 0
+    found = []
+    for letter in letters:
+        now, told = machine[now][letter]
+        found.append(told)
+    return tuple(found)
 
 
 def smallest(table):

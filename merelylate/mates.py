@@ -39,10 +39,15 @@ class Mates:
         return sorted(known)
 
 
+def are_honest(mates):
+    """Whether the mates are those of a mill with neither a free choice nor a paradox."""
+    # The free choice is looked for first, since it asks for no sets.
+    return not mates.have_choice() and sets_that_come(mates.live)[1] is None
+
+
 def honest_mates(mill):
     """The mates of a checked mill; NotHonest if it has a paradox or a free choice."""
     mates = Mates(Live(mill))
-    # The free choice is looked for first, since it asks for no sets.
-    if mates.have_choice() or sets_that_come(mates.live)[1] is not None:
+    if not are_honest(mates):
         raise NotHonest("the mill has a paradox or a free choice")
     return mates

@@ -16,10 +16,14 @@ def holds(mill, columns, tick):
     """Whether all equations hold at a tick of the columns from tick 0 on."""
     check_mill(mill)
     check_columns(mill, columns)
-    back, ahead = looks(mill[3])
-    if not is_within(tick, 0, len(columns) - 1 - ahead):
+    check_tick(mill, columns, tick)
+    return all_hold(mill[3], with_before(mill, columns), tick + looks(mill[3])[0])
+
+
+def check_tick(mill, columns, tick):
+    """Raise BadTick unless a value is a tick so that all that is read there is among the columns."""
+    if not is_within(tick, 0, len(columns) - 1 - looks(mill[3])[1]):
         raise BadTick("no tick so that all that is read there is among the columns")
-    return all_hold(mill[3], before_tick_0(mill, back) + columns, tick + back)
 
 
 def tells(mill, columns):
@@ -39,7 +43,7 @@ def is_history(mill, value):
     # From the tick on at which nothing before the loop is read any more,
     # one turn of the loop reads the same as the next one.
     ticks = len(stem) + back + len(loop)
-    columns = before_tick_0(mill, back) + unrolled(stem, loop, ticks + ahead)
+    columns = with_before(mill, unrolled(stem, loop, ticks + ahead))
     for tick in range(ticks):
         if not all_hold(mill[3], columns, tick + back):
             return False
@@ -54,6 +58,11 @@ def column_before(mill):
 def before_tick_0(mill, many):
     """The columns of the last so many ticks before tick 0."""
     return (column_before(mill),) * many
+
+
+def with_before(mill, columns):
+    """Columns from tick 0 on behind as many from before it as the equations look back."""
+    return before_tick_0(mill, looks(mill[3])[0]) + columns
 
 
 def told_by(mill, column):

@@ -1,7 +1,7 @@
 """Paradoxes: words that no input with a history begins with."""
 
 from merelylate.checks import check_mill, check_word
-from merelylate.kinds import is_tuple
+from merelylate.kinds import is_ascending, is_tuple
 from merelylate.live import Live
 from merelylate.masks import mask_of, numbers_in
 from merelylate.subsets import MOST_SETS, sets_that_come
@@ -62,8 +62,3 @@ def row_of(live, value):
     if None in row or not is_ascending(row):
         return None
     return row
-
-
-def is_ascending(row):
-    """Whether each thing in a list is less than the one behind it."""
-    return all([row[at - 1] < row[at] for at in range(1, len(row))])

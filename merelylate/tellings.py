@@ -3,7 +3,6 @@
 from merelylate.errors import TooMany
 
 MOST_WAYS = 20000
-MOST_OWED = 2000
 
 
 class Told:
@@ -50,15 +49,23 @@ def all_alike(rows, tick):
     return all([row[tick] == rows[0][tick] for row in rows])
 
 
+def owed_at_start(live):
+    """The live windows that the empty word leads to, each with what it told: nothing."""
+    return tuple([(number, ()) for number in live.starts])
+
+
 def owed_behind(live, owed, letter):
-    """To which live windows a letter leads some, each with what it told from the first unsure tick on."""
+    """To which live windows a letter leads some, each with what it told from the first unsure tick on.
+
+    With them what gets sure: the tellings of the next ticks, as many as are.
+    """
     fresh = []
     for number, row in owed:
         for after in live.ways[number][letter]:
             fresh.append((after, row + (live.told[after],)))
     keep = sure_ticks([row for _, row in fresh])
     # Several ways may come to one window: in an honest mill they told the same.
-    return tuple(sorted({(number, row[keep:]) for number, row in fresh}))
+    return tuple(sorted({(number, row[keep:]) for number, row in fresh})), fresh[0][1][:keep]
 
 
 def sure_ticks(rows):
@@ -69,20 +76,34 @@ def sure_ticks(rows):
     return ticks
 
 
-def owed_by_words(live):
-    """All that words make an honest mill owe, the least of the shortest words first, and these words."""
-    found = [tuple([(number, ()) for number in live.starts])]
-    words = [()]
-    known = {found[0]: True}
-    at = 0
-    while at < len(found):
-        for letter in range(live.many_letters):
-            after = owed_behind(live, found[at], letter)
-            if after not in known:
-                known[after] = True
-                found.append(after)
-                words.append(words[at] + (letter,))
-        if len(found) > MOST_OWED:
-            raise TooMany(MOST_OWED)
-        at += 1
-    return found, words
+class Owed:
+    """All that words make an honest mill owe, the least of the shortest words first."""
+
+    def __init__(self, live, most):
+        self.live = live
+        self.found = [owed_at_start(live)]
+        self.words = [()]
+        # For each the number of that to which a letter leads, and what gets sure at the letter.
+        self.table = []
+        self.find_all(most)
+
+    def find_all(self, most):
+        """Find so many at most."""
+        numbers = {self.found[0]: 0}
+        while len(self.table) < len(self.found):
+            at = len(self.table)
+            state = []
+            for letter in range(self.live.many_letters):
+                after, told = owed_behind(self.live, self.found[at], letter)
+                if after not in numbers:
+                    numbers[after] = len(self.found)
+                    self.found.append(after)
+                    self.words.append(self.words[at] + (letter,))
+                state.append((numbers[after], told))
+            if len(self.found) > most:
+                raise TooMany(most)
+            self.table.append(state)
+
+    def numbers_owed(self):
+        """How many ticks are owed in each: all rows of one are as long."""
+        return [len(owed[0][1]) for owed in self.found]

@@ -113,9 +113,19 @@ def worth_of_two(kind, first, second):
     return int(first < second)
 
 
+def first_failing(equations, columns, at):
+    """The number of the first equation that doesn't hold at the column of number at, None if all do."""
+    for number, pair in enumerate(equations):
+        if not is_held(pair, columns, at):
+            return number
+    return None
+
+
 def all_hold(equations, columns, at):
     """Whether all equations hold at the column of number at."""
-    for left, right in equations:
-        if worth(left, columns, at) != worth(right, columns, at):
-            return False
-    return True
+    return first_failing(equations, columns, at) is None
+
+
+def is_held(pair, columns, at):
+    """Whether the two terms of an equation come to the same at the column of number at."""
+    return worth(pair[0], columns, at) == worth(pair[1], columns, at)

@@ -1,8 +1,9 @@
 """The ways through the windows of a mill, all of them and the live ones."""
 
 from merelylate.errors import TooMany
+from merelylate.graphs import lasting
 from merelylate.mills import before_tick_0
-from merelylate.terms import all_hold, looks, window_length
+from merelylate.terms import first_failing, looks, window_length
 
 MOST_WINDOWS = 600
 
@@ -14,22 +15,39 @@ class Steps:
         self.equations = mill[3]
         self.ahead = looks(mill[3])[1]
         self.length = window_length(mill[3])
+        # Among a window's columns and the one behind them, that of the tick for which the equations are asked.
+        self.asked = self.length - self.ahead
         self.start = (0, before_tick_0(mill, self.length))
         self.many_letters = mill[0]
         self.columns = [columns_with(mill, letter) for letter in range(mill[0])]
 
     def onward(self, window, letter):
         """The ascending tuple of the windows to which a letter leads from a window."""
+        return tuple([self.behind(window, column) for column in self.columns[letter] if self.fits(window, column)])
+
+    def behind(self, window, column):
+        """The window behind a window when a column has come."""
         phase, columns = window
+        return (min(phase + 1, self.ahead), columns[1:] + (column,))
+
+    def cut(self, window):
+        """What is left of a window of a mill that looks as far back and ahead, or farther."""
+        return (min(window[0], self.ahead), window[1][-self.length:])
+
+    def asks(self, window):
+        """Whether the column that comes behind a window makes the equations be asked for a tick."""
         # Before that phase, the tick so far before the next column is none yet.
-        asked = phase == self.ahead
-        after = min(phase + 1, self.ahead)
-        found = []
-        for column in self.columns[letter]:
-            row = columns + (column,)
-            if not asked or all_hold(self.equations, row, self.length - self.ahead):
-                found.append((after, row[1:]))
-        return tuple(found)
+        return window[0] == self.ahead
+
+    def failing_by(self, window, column):
+        """The number of the first equation that fails by a column behind a window, None if the column fits."""
+        if not self.asks(window):
+            return None
+        return first_failing(self.equations, window[1] + (column,), self.asked)
+
+    def fits(self, window, column):
+        """Whether a column may come behind a window."""
+        return self.failing_by(window, column) is None
 
 
 def columns_with(mill, letter):
@@ -72,23 +90,9 @@ def live_ways(mill):
 
 def still_alive(ways):
     """A dict of True for the windows from which some letters lead on for ever."""
-    sources = {window: [] for window in ways}
-    left = {}
-    for window in ways:
-        left[window] = 0
-        for row in ways[window]:
-            for after in row:
-                sources[after].append(window)
-                left[window] += 1
-    # A window dies with the last one that it leads to.
-    dying = [window for window in ways if left[window] == 0]
-    while dying:
-        gone = dying.pop()
-        for window in sources[gone]:
-            left[window] -= 1
-            if left[window] == 0:
-                dying.append(window)
-    return {window: True for window in ways if left[window] > 0}
+    numbers = {window: number for number, window in enumerate(ways)}
+    alive = lasting([[numbers[after] for row in ways[window] for after in row] for window in ways])
+    return {window: True for window, number in numbers.items() if number in alive}
 
 
 def those_in(kept, row):

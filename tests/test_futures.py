@@ -141,7 +141,7 @@ class OwedTest(unittest.TestCase):
                 self.assertEqual(samples.fields_of(call, samples.FREE, (0,) * 4), ("TooMany", 8))
         # Behind no letter, one, and each two of them there are 1, 2 and 4 lots of what is owed.
         for most in range(6, 10):
-            with unittest.mock.patch("merelylate.tellings.MOST_OWED", most):
+            with unittest.mock.patch("merelylate.futures.MOST_OWED", most):
                 wanted = ("TooMany", most) if most < 7 else None
                 self.assertEqual(samples.fields_of(owed_most, samples.NEXT_BUT_ONE), wanted)
 
